@@ -8,10 +8,10 @@ import (
 	"omnibus/frame"
 )
 
-// far is how many places are looked at. Short frames have fewer, so that all their
-// rounds are seen; of Long ones there may be some two thousand millions, more than
-// can be kept, so that a round farther off than these isn't.
-const far = 100 * api.MaxBits
+// near is how many places are kept, with all that leads from one to another. Short
+// frames have fewer; of Long ones there may be some two thousand millions, too many
+// for that.
+const near = 10 * api.MaxBits
 
 // place is a frame on a bus. All that comes of one frame is like it but for the
 // number (a route leaves Long as it is, too), so that no more is needed here.
@@ -37,8 +37,9 @@ func Spread(l []api.Route, bus int, f api.Frame) ([]api.Line, api.Errno) {
 		return nil, api.ErrRange
 	}
 	w := webOf(l, bus, f)
+	isAll := len(w.places) < near // so it is of each short frame
 	switch {
-	case goesRound(w):
+	case goesRound(w), !isAll && goesRoundFar(l, w.places):
 		return nil, api.ErrRound
 	case len(w.places) > api.MaxBits:
 		return nil, api.ErrMany
@@ -47,13 +48,13 @@ func Spread(l []api.Route, bus int, f api.Frame) ([]api.Line, api.Errno) {
 	return linesOf(w.places[1:], f), api.OK
 }
 
-// webOf is what comes of f on a bus, as far as it is looked at.
+// webOf is what comes of f on a bus, but no more than the nearest places.
 func webOf(l []api.Route, bus int, f api.Frame) web {
 	var w web
 	numbers := map[place]int{}
 	numberOf := func(p place) (int, bool) {
 		n, known := numbers[p]
-		if !known && len(w.places) < far {
+		if !known && len(w.places) < near {
 			n, known = len(w.places), true
 			numbers[p] = n
 			w.places = append(w.places, p)
